@@ -1,0 +1,1 @@
+"""Whomayname: which later code may name the members of given classes."""
