@@ -1,6 +1,6 @@
 """What several test files need: to see an error whole, and to see that a library did not change."""
 
-from whomayname.errors import AccessError
+from whomayname.errors import AccessError, Barred, Shut
 
 
 class Refusals:
@@ -12,6 +12,30 @@ class Refusals:
             call(*args, **more)
         error = caught.exception
         self.assertEqual((type(error), error.what, error.row), (refusal, what, None), (args, more))
+
+    def assert_program_refused(self, house, rows, refusal, row, what, why=None):
+        """That a house raises exactly this error for a program, which stays as it was, up to the row of the error."""
+        before = list(rows)
+        for call in (house.check, house.run):
+            with self.assertRaises(AccessError) as caught:
+                call(rows)
+            error = caught.exception
+            self.assertEqual((type(error), error.row, error.what), (refusal, row, what), rows)
+            self.assertEqual(getattr(error, "why", None), why, rows)
+            if refusal is Barred:
+                self.assertIs(type(error.__cause__), Shut)
+                self.assertEqual(error.__cause__.what, why[0])
+        self.assertIs(house.accepts(rows), False)
+        self.assertEqual(rows, before)
+        self.assert_accepted(house, rows[:row])
+
+    def assert_accepted(self, house, rows):
+        """That a house accepts each beginning of a program, which stays as it was."""
+        before = list(rows)
+        self.assertIsNone(house.check(rows))
+        for count in range(len(rows) + 1):
+            self.assertIs(house.accepts(rows[:count]), True, rows[:count])
+        self.assertEqual(rows, before)
 
 
 def seen(library, names):
@@ -25,3 +49,10 @@ def seen(library, names):
         library.uses,
         {name: library.package_of(name) for name in library.classes},
     )
+
+
+def seen_of_house(house):
+    """All that a house tells of its library and its present uses, and its book."""
+    library = house.library()
+    names = [*library.classes, *library.package_names(), *(mark[1] for mark in library.marks), "new", "zz"]
+    return seen(library, names), sorted(house.broken(), key=str), house.book

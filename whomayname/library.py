@@ -21,6 +21,10 @@ class Packages:
         """Whether there is a sealed package of this name."""
         return self._sealed.get(name, False)
 
+    def package_names(self):
+        """A list of the packages in order."""
+        return list(self._sealed)
+
 
 class Lineage:
     """Classes in the order in which they came, their nesting and their bases."""
@@ -60,6 +64,39 @@ class Lineage:
         """The class directly around a class, or None."""
         return self._outer[name]
 
+    def knows(self, name):
+        """Whether there is a class of this name."""
+        return name in self._lines
+
+    def around(self, name):
+        """A list of a class and all classes around it, from the inside out."""
+        found = []
+        while name is not None:
+            found.append(name)
+            name = self._outer[name]
+        return found
+
+    def lies_in(self, inner, outer):
+        """Whether inner is outer or lies inside it."""
+        return outer in self.around(inner)
+
+    def first_unknown(self, names):
+        """The first of the names that no class has, or None."""
+        for name in names:
+            if name not in self._lines:
+                return name
+        return None
+
+    def first_joined(self, bases):
+        """The first base that is, or has above it, a class that an earlier one is or has above it, or None."""
+        covered = {}
+        for base in bases:
+            line = self._lines[base]
+            if any([upper in covered for upper in line]):
+                return base
+            covered.update(line)
+        return None
+
     def _check_known(self, name):
         if name not in self._lines:
             raise Unknown(name)
@@ -71,14 +108,12 @@ class Lineage:
             self._check_known(inside)
 
     def _check_bases(self, bases):
-        for base in bases:
-            self._check_known(base)
-        covered = {}
-        for base in bases:
-            line = self._lines[base]
-            if any([upper in covered for upper in line]):
-                raise Joined(base)
-            covered.update(line)
+        unknown = self.first_unknown(bases)
+        if unknown is not None:
+            raise Unknown(unknown)
+        joined = self.first_joined(bases)
+        if joined is not None:
+            raise Joined(joined)
 
 
 class Library(Packages, Lineage):
@@ -98,9 +133,13 @@ class Library(Packages, Lineage):
         self._check_name(name, inside)
         if inside is None and package not in self._sealed:
             raise Unknown(package)
+        self.add_later(name, package=package, inside=inside, bases=bases)
+        self._levels[(name, MAKER, "make")] = maker
+
+    def add_later(self, name, *, package, inside, bases):
+        """Add a class whose maker has no level, in any package. Raise as link does."""
         self.link(name, inside=inside, bases=bases)
         self._packages[name] = package if inside is None else self.package_of(inside)
-        self._levels[(name, MAKER, "make")] = maker
 
     def add_member(self, owner, name, *, kind, level, write=None):
         """Declare a member. Raise Unknown(owner), Taken(name), Misfit(name)."""
@@ -121,7 +160,7 @@ class Library(Packages, Lineage):
         """Add a use, once. Raise Unknown(place), Unknown(through), Misfit(name)."""
         self._check_known(place)
         self._check_known(through)
-        if not self._is_naming(place, way, name, through):
+        if not self.is_naming(place, way, name, through):
             raise Misfit(name)
         if body is not None and not self._may_stand_in(body, place, way, name, through):
             raise Misfit(name)
@@ -157,6 +196,80 @@ class Library(Packages, Lineage):
         """The package in which a class lies, or None if it was linked without one."""
         return self._packages.get(name)
 
+    def copied(self):
+        """A library of its own that has all that this one has."""
+        made = Library()
+        made._sealed = dict(self._sealed)
+        made._outer = dict(self._outer)
+        made._bases = dict(self._bases)
+        made._lines = dict(self._lines)
+        made._packages = dict(self._packages)
+        made._roots = dict(self._roots)
+        made._kinds = {key: self._kinds[key] for key in self._kinds}
+        made._levels = {mark: self._levels[mark] for mark in self._levels}
+        made._uses = {use: True for use in self._uses}
+        return made
+
+    def set_level(self, mark, level):
+        """Give a mark another level. Raise Unknown(mark)."""
+        if mark not in self._levels:
+            raise Unknown(mark)
+        self._levels[mark] = level
+
+    def has_level(self, mark):
+        """Whether a mark has a level: the maker of a later class has none."""
+        return mark in self._levels
+
+    def move(self, name, package):
+        """Put a class, with the classes inside it, into a package."""
+        for inner in self._outer:
+            if self.lies_in(inner, name):
+                self._packages[inner] = package
+
+    def declarations(self):
+        """A list of the declarations (owner, name, kind) in order."""
+        return [(owner, name, kind) for (owner, name), kind in self._kinds.items()]
+
+    def root_of(self, name):
+        """The class that declared a name first, or None."""
+        return self._roots.get(name)
+
+    def declares(self, owner, name):
+        """Whether a class itself declares a name."""
+        return (owner, name) in self._kinds
+
+    def owner_above(self, lower, name):
+        """The class whose declaration of the name a base of lower has, or None."""
+        for base in self._bases[lower]:
+            owner = self.owner_of(base, name)
+            if owner is not None:
+                return owner
+        return None
+
+    def kind_of(self, through, name):
+        """The kind of the member of this name that through has, or None."""
+        owner = self.owner_of(through, name)
+        return None if owner is None else self._kinds[(owner, name)]
+
+    def is_naming(self, place, way, name, through):
+        """Whether known classes place and through, with way and name, make a naming."""
+        if way == "make":
+            return name == MAKER
+        kind = self.kind_of(through, name)
+        if way in ("read", "write"):
+            return kind == "field"
+        if way == "call":
+            return kind in ("method", "static")
+        return way == "elder" and kind == "method" and through in self._bases[place]
+
+    def is_on_object(self, way, name):
+        """Whether namings of a known member concern an object, as those of statics and makers do not."""
+        return way != "make" and self._kinds[(self._roots[name], name)] != "static"
+
+    def uses_in(self, owner, body):
+        """A list of the uses that stand in a body."""
+        return [use for use in self._uses if use[0] == owner and use[4] == body]
+
     def _may_declare(self, owner, name, kind):
         if name == MAKER:
             return False
@@ -167,30 +280,15 @@ class Library(Packages, Lineage):
 
     def _base_towards(self, lower, upper):
         # No class stands above two bases, so at most one base leads to upper.
-        for base in self.bases_of(lower):
+        for base in self._bases[lower]:
             if self.is_below(base, upper):
                 return base
         return None
 
-    def _kind_of(self, through, name):
-        owner = self.owner_of(through, name)
-        return None if owner is None else self._kinds[(owner, name)]
-
-    def _is_naming(self, place, way, name, through):
-        kind = self._kind_of(through, name)
-        if way in ("read", "write"):
-            return kind == "field"
-        if way == "call":
-            return kind in ("method", "static")
-        if way == "make":
-            return (through, name, way) in self._levels
-        return way == "elder" and kind == "method" and through in self.bases_of(place)
-
     def _may_stand_in(self, body, place, way, name, through):
         """Whether a naming may stand in a body that place itself declares."""
-        free = way == "make" or self._kind_of(through, name) == "static"
         kind = self._kinds.get((place, body))
-        if kind == "static":
-            return free
-        # What is not free concerns the object that the method runs on, which is one of place.
-        return kind == "method" and (free or way == "elder" or through == place)
+        if not self.is_on_object(way, name):
+            return kind in ("method", "static")
+        # The object is the one that the method runs on, which is one of place.
+        return kind == "method" and (way == "elder" or through == place)
