@@ -126,7 +126,10 @@ class Chance:
                 return
             name = source.choice(("m", "n", "k", "f", "s"))
             kind = {"f": "field", "s": "static"}.get(name, "method")
-            if source.random() < 0.2:
+            methods = [row[1] for row in plan["members"] if row[2] == "method"]
+            if methods and source.random() < 0.4:
+                name, kind = source.choice(methods), "method"
+            elif source.random() < 0.2:
                 name += "2"
             write = self.level(plan) if kind == "field" and source.random() < 0.7 else None
             if self.is_fine(plan, "members", (source.choice(owners), name, kind, self.level(plan), write)):

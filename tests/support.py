@@ -54,5 +54,5 @@ def seen(library, names):
 def seen_of_house(house):
     """All that a house tells of its library and its present uses, and its book."""
     library = house.library()
-    names = [*library.classes, *library.package_names(), *(mark[1] for mark in library.marks), "new", "zz"]
+    names = [*library.classes, *library.package_names(), *(mark[1] for mark in library.marks), "new", "f2", "z"]
     return seen(library, names), sorted(house.broken(), key=str), house.book

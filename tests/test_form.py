@@ -5,7 +5,7 @@ import inspect
 import pathlib
 import unittest
 
-from whomayname import errors, library, rules
+from whomayname import errors, houses, levels, library, parting, reach, rules
 
 PACKAGE = pathlib.Path(rules.__file__).parent
 
@@ -15,6 +15,15 @@ METHODS = {
     (library, "Packages"): ("__init__", "add_package", "is_sealed"),
     (library, "Lineage"): ("__init__", "link", "is_below", "classes"),
     (library, "Library"): ("__init__", "add_class", "add_member", "add_use", "owner_of", "level_of", "marks"),
+    (houses, "House"): ("__init__", "book", "library", "stance", "broken", "check", "accepts", "run", "releveled",
+                        "moved"),
+    (reach, "Table"): ("__init__", "__contains__", "__getitem__", "__len__", "__iter__"),
+}
+
+FUNCTIONS = {
+    houses: ("swap_book",),
+    parting: ("first_break", "parting", "safe_moves"),
+    levels: ("tightest", "against", "openings"),
 }
 
 SIGNATURES = {
@@ -29,6 +38,23 @@ SIGNATURES = {
     library.Library.level_of: "(self, mark)",
     rules.Rule.of: "(*words)",
     rules.Book.usual: "()",
+    houses.House: "(library, book)",
+    houses.House.library: "(self)",
+    houses.House.stance: "(self, place, owner, through)",
+    houses.House.broken: "(self)",
+    houses.House.check: "(self, rows)",
+    houses.House.accepts: "(self, rows)",
+    houses.House.run: "(self, rows)",
+    houses.House.releveled: "(self, levels)",
+    houses.House.moved: "(self, name, package)",
+    houses.swap_book: "(house, book)",
+    reach.Table: "(house)",
+    parting.first_break: "(house, other)",
+    parting.parting: "(house, other)",
+    parting.safe_moves: "(house)",
+    levels.tightest: "(house)",
+    levels.against: "(house, mark, level)",
+    levels.openings: "(house, wishes)",
     rules.Book: "(pairs)",
     library.Packages: "()",
     library.Lineage: "()",
@@ -44,6 +70,11 @@ class Interface(unittest.TestCase):
             for method in methods:
                 self.assertIn(method, vars(made), (name, method))
 
+    def test_functions_stand_in_their_file(self):
+        for module, names in FUNCTIONS.items():
+            for name in names:
+                self.assertEqual(getattr(module, name).__module__, module.__name__)
+
     def test_errors_stand_in_their_file(self):
         for name in ("AccessError", "Unknown", "Taken", "Sealed", "Joined", "Misfit", "Narrow", "Unlike",
                      "Shut", "Barred"):
@@ -58,8 +89,9 @@ class Interface(unittest.TestCase):
 
     def test_properties(self):
         for made, name in ((rules.Rule, "stances"), (rules.Book, "levels"),
-                           (library.Lineage, "classes"), (library.Library, "marks")):
+                           (library.Lineage, "classes"), (library.Library, "marks"), (houses.House, "book")):
             self.assertIsInstance(vars(made)[name], property)
+        self.assertIsNotNone(vars(houses.House)["book"].fset)
         self.assertIsInstance(vars(rules.Rule)["of"], classmethod)
         self.assertIsInstance(vars(rules.Book)["usual"], staticmethod)
 

@@ -55,6 +55,21 @@ class Copies(unittest.TestCase):
         self.assertEqual(seen_of_house(house), before)
         self.assertIsNot(house.library(), house.library())
 
+    def test_told_libraries_beside_each_other(self):
+        house = house_of(FULL)
+        one, two = house.library(), house.library()
+        one.add_class("z", maker="public", inside="a")
+        two.add_class("z", maker="public", package="q", bases=("e",))
+        one.add_member("z", "n", kind="field", level="public")
+        two.add_member("a", "n", kind="method", level="private")
+        self.assertEqual([one.owner_of("z", "n"), two.owner_of("z", "n")], ["z", "a"])
+        self.assertEqual([one.owner_of("a", "n"), house.library().owner_of("a", "n")], [None, None])
+        first, second = House(one, house.book), House(two, house.book)
+        self.assertIn("nested", first.stance("z", "a", "a"))
+        self.assertEqual(second.stance("z", "a", "a"), ("heir", "any"))
+        self.assertEqual(first.moved("a", "q").library().package_of("z"), "q")
+        self.assertEqual(second.moved("a", "q").moved("a", "p").library().package_of("z"), "q")
+
     def test_told_library_has_everything(self):
         library = library_of(FULL)
         told = House(library, Book.usual()).library()

@@ -113,6 +113,7 @@ class Search:
 
     def _by_first(self, sides):
         """A break whose last row calls what a body of a stranger declared, from the stranger's first class."""
+        # The first class lies in another package, or the last one would not have needed it.
         for rows in self._with_bodies(sides):
             act = _call_of_body(rows[0][1], rows)
             if self._is_break(rows + [act]):
@@ -139,13 +140,13 @@ class Search:
 
     def _with_caller(self, rows):
         """The programs that add to a stranger a class after its last one, or around it."""
-        place, package, inside, bases, bodies = rows[-1][1:]
+        place, package, _, bases, bodies = rows[-1][1:]
         third = self._cast.third
         after = [
             rows + [class_row(third, its_package, its_bases)]
             for its_package in (package, self._cast.away_from(package)) for its_bases in ((), (place,))
         ]
-        around = [class_row(third, package, (), inside), class_row(place, None, bases, third, bodies)]
+        around = [class_row(third, package, ()), class_row(place, None, bases, third, bodies)]
         return after + [rows[:-1] + around]
 
     def _is_break(self, rows):

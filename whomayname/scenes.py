@@ -49,7 +49,7 @@ class Scene:
     def _take_class(self, at, row):
         _, name, package, inside, bases, bodies = row
         self._check_names(at, name, inside, bases)
-        if inside is None and self._library.is_sealed(package):
+        if self._library.is_sealed(package):
             raise Sealed(package, at)
         joined = self._library.first_joined(bases)
         if joined is not None:

@@ -16,7 +16,7 @@ class Cast:
     def lone_rows(self):
         """A list of the rows that add a class with at most one base, in any known package or in a far one."""
         all_bases = [()] + [(name,) for name in self._classes]
-        return [class_row(self.first, package, bases) for package in self._packages() for bases in all_bases]
+        return [class_row(self.first, package, bases) for package in self._tried_packages() for bases in all_bases]
 
     def twin_rows(self, lone_rows):
         """A list of pairs: for each base, the first row that has it, with each row of a class below that one."""
@@ -26,14 +26,14 @@ class Cast:
                 leading.setdefault(base_of([row]), row)
         return [
             [row, class_row(self.second, package, (self.first,))]
-            for row in leading.values() for package in self._packages()
+            for row in leading.values() for package in self._tried_packages()
         ]
 
     def away_from(self, package):
         """A package other than the given one, which no library has."""
         return self.farther if package == self.far else self.far
 
-    def _packages(self):
+    def _tried_packages(self):
         return list(self._known) + [self.far]
 
 
